@@ -1,0 +1,121 @@
+"""Rules of the language that can be seen in the files of the package, by their numbers."""
+
+import ast
+import builtins
+import unittest
+from pathlib import Path
+
+PACKAGE = Path(__file__).resolve().parent.parent / "nestprops"
+FILES = sorted(path for path in PACKAGE.rglob("*") if "__pycache__" not in path.parts)
+SOURCES = {path: path.read_bytes() for path in FILES if path.suffix == ".py"}
+MODULES = {f"nestprops.{path.stem}" for path in SOURCES}
+TREES = {path: ast.parse(source) for path, source in SOURCES.items()}
+
+LIBRARY = ("heapq", "math", "itertools", "collections")
+FUNCTIONS = set(
+    "len range enumerate zip min max sum abs sorted reversed int str bool bytes list tuple dict set frozenset "
+    "isinstance ord repr any all divmod pow iter next map Exception ValueError TypeError KeyError IndexError "
+    "LookupError ZeroDivisionError ArithmeticError OverflowError RuntimeError NotImplementedError "
+    "AttributeError StopIteration NotImplemented getattr hasattr setattr super property staticmethod classmethod".split())
+METHODS = set(
+    "append clear copy count endswith extend find get index insert isalnum isalpha isdigit islower isspace "
+    "isupper items join keys ljust lower lstrip partition pop remove replace reverse rfind rjust rpartition "
+    "rsplit rstrip setdefault split splitlines startswith strip update upper values zfill bit_length add "
+    "discard".split())
+DOUBLE = set(
+    "init eq repr str len enter exit call iter lt le gt ge ne add sub mul floordiv mod pow and or xor lshift "
+    "rshift neg pos invert abs bool contains getitem setitem".split())
+BARRED = (ast.AsyncFunctionDef, ast.Global, ast.Import, ast.Await, ast.AsyncFor, ast.AsyncWith, ast.Div)
+
+
+def nodes(*kinds):
+    """Return the nodes of some kinds in all files, each with the name of its file."""
+    return [(path.name, node) for path, tree in TREES.items() for node in ast.walk(tree) if isinstance(node, kinds)]
+
+
+class TestFiles(unittest.TestCase):
+    def test_the_folder_holds_python_files_alone(self):
+        self.assertEqual([path.name for path in FILES if path.suffix != ".py" and not path.is_dir()], [])
+        for folder in [PACKAGE, *[path for path in FILES if path.is_dir()]]:
+            self.assertTrue((folder / "__init__.py").exists())
+
+    def test_l10_sizes_and_l14_characters(self):
+        for path, source in SOURCES.items():
+            rows = source.decode("utf-8").split("\n")
+            self.assertLess(len(rows), 400, path.name)
+            self.assertLessEqual(max(len(row) for row in rows), 120, path.name)
+            self.assertTrue(all(byte == 10 or 32 <= byte <= 126 for byte in source), path.name)
+        for name, node in nodes(ast.FunctionDef):
+            self.assertLessEqual(node.end_lineno - node.lineno + 1, 40, (name, node.name))
+
+    def test_l2_imports(self):
+        for name, node in nodes(ast.ImportFrom):
+            self.assertEqual(node.level, 0)
+            self.assertIn(node.module.split(".")[0], ("nestprops", *LIBRARY), name)
+            self.assertNotIn("*", [alias.name for alias in node.names])
+
+    def test_l3_module_level(self):
+        for path, tree in TREES.items():
+            for node in tree.body:
+                plain = isinstance(node, (ast.ImportFrom, ast.FunctionDef, ast.ClassDef, ast.Assign, ast.Expr))
+                self.assertTrue(plain, (path.name, node.lineno))
+                if isinstance(node, ast.Expr):
+                    self.assertIsInstance(node.value, ast.Constant)
+
+    def test_l16_no_imports_in_a_circle(self):
+        imported = {}
+        for path, tree in TREES.items():
+            modules = [node.module for node in tree.body if isinstance(node, ast.ImportFrom)]
+            imported[f"nestprops.{path.stem}"] = {one for one in modules if one in MODULES}
+        while imported:
+            free = [module for module, needs in imported.items() if not needs & set(imported)]
+            self.assertTrue(free, imported)
+            for module in free:
+                del imported[module]
+
+
+class TestStatements(unittest.TestCase):
+    def test_barred_statements(self):
+        self.assertEqual([(name, node) for name, node in nodes(*BARRED)], [])
+
+    def test_l4_l5_decorators(self):
+        for name, node in nodes(ast.FunctionDef, ast.ClassDef):
+            for decorator in node.decorator_list:
+                word = decorator.attr if isinstance(decorator, ast.Attribute) else decorator.id
+                self.assertIn(word, ("property", "setter", "classmethod", "staticmethod"), (name, node.lineno))
+                self.assertIsInstance(node, ast.FunctionDef)
+
+    def test_l5_double_underscores(self):
+        for name, node in nodes(ast.FunctionDef):
+            if node.name.startswith("__"):
+                self.assertIn(node.name[2:-2], DOUBLE, (name, node.lineno))
+
+    def test_l7_generator_expressions(self):
+        for name, node in nodes(ast.Call):
+            if isinstance(node.func, ast.Name) and node.func.id in ("any", "all", "min", "max", "sum", "sorted"):
+                for argument in node.args:
+                    self.assertNotIsInstance(argument, ast.GeneratorExp, (name, node.lineno))
+
+    def test_l8_builtins(self):
+        for name, node in nodes(ast.Name):
+            if node.id in vars(builtins):
+                self.assertIn(node.id, FUNCTIONS, (name, node.lineno))
+                self.assertIsInstance(node.ctx, ast.Load, (name, node.lineno))
+        for name, node in nodes(ast.arg, ast.FunctionDef, ast.ClassDef):
+            word = node.arg if isinstance(node, ast.arg) else node.name
+            self.assertNotIn(word, vars(builtins), name)
+
+    def test_l25_methods(self):
+        own = {node.name for _, node in nodes(ast.FunctionDef)}
+        for name, node in nodes(ast.Call):
+            if isinstance(node.func, ast.Attribute):
+                self.assertIn(node.func.attr, METHODS | own, (name, node.lineno))
+
+    def test_l27_strings_and_numbers(self):
+        for name, node in nodes(ast.Constant):
+            self.assertNotIsInstance(node.value, (float, complex))
+            if isinstance(node.value, str):
+                self.assertNotIn("%", node.value, (name, node.lineno))
+
+if __name__ == "__main__":
+    unittest.main()
