@@ -3,6 +3,7 @@
 from nestprops.errors import NoPart, NoPlan, NoText
 from nestprops.rulereader import least_of, read_tree
 from nestprops.rules import Rule
+from nestprops.masks import support_table
 from nestprops.words import is_name
 
 MOST_PARTS = 8
@@ -17,6 +18,8 @@ class Plan:
         check_rules(rows)
         self.names = tuple([row[0] for row in rows])
         self._rules = tuple([row[1] for row in rows])
+        # Nearly everything about yards asks for it again and again, so it is made once.
+        self.support = support_table(self.names, self._rules)
 
     @classmethod
     def of(cls, **rules):

@@ -16,6 +16,19 @@ PLAIN = {
     },
     "ruletexts": {"show_rule": "rule"},
     "plans": {"Plan": "rows"},
+    "yards": {"Yard": "plan parts=()", "all_yards": "plan * standing=True"},
+    "yardtexts": {"show_yard": "yard"},
+    "falls": {
+        "fallen": "yard struck=() props=()", "fall_rounds": "yard struck=() props=()",
+        "fall_row": "yard struck=() props=()", "fall_row_holds": "yard row struck=() props=()",
+    },
+    "scripts": {
+        "run": "yard deeds", "depth_of": "deeds", "reverse_of": "deeds", "script_holds": "yard goal depth deeds",
+    },
+    "growth": {
+        "grown": "yard * depth=0 props=()", "is_full": "yard * depth=0", "full_yards": "plan * depth=0",
+        "join_of": "yard other * depth=0", "meet_of": "yard other",
+    },
 }
 
 METHODS = {
@@ -27,16 +40,27 @@ METHODS = {
         "of": "**rules", "read": "text", "rule": "name", "__len__": "", "__contains__": "name",
         "__eq__": "other", "__repr__": "",
     },
+    ("yards", "Yard"): {
+        "read": "plan text", "supported": "props=()", "stands_under": "props", "rest_under": "props",
+        "__or__": "other", "__and__": "other", "__sub__": "other", "__eq__": "other", "__len__": "",
+        "__contains__": "name", "__bool__": "", "__repr__": "",
+    },
 }
 
-CLASS_METHODS = {("rules", "Rule"): ("of_sets", "read"), ("plans", "Plan"): ("of", "read")}
+CLASS_METHODS = {("rules", "Rule"): ("of_sets", "read"), ("plans", "Plan"): ("of", "read"), ("yards", "Yard"): ("read",)}
+PROPERTIES = {("rules", "Rule"): ("turned",), ("yards", "Yard"): ("stands", "rest")}
 
 
 def parameters_of(function):
-    """Return the parameters of a function as a text, without the object of a method."""
+    """Return the parameters of a function as a text, without the object of a method; a lone star is a word."""
     marks = {inspect.Parameter.VAR_POSITIONAL: "*", inspect.Parameter.VAR_KEYWORD: "**"}
-    found = inspect.signature(function).parameters.values()
-    return " ".join(marks.get(one.kind, "") + one.name for one in found if one.name != "self")
+    words = []
+    for one in inspect.signature(function).parameters.values():
+        if one.kind == inspect.Parameter.KEYWORD_ONLY and "*" not in words:
+            words.append("*")
+        default = "" if one.default is inspect.Parameter.empty else f"={one.default!r}"
+        words.append(marks.get(one.kind, "") + one.name + default)
+    return " ".join(word for word in words if word != "self")
 
 
 class TestInterface(unittest.TestCase):
@@ -61,8 +85,10 @@ class TestInterface(unittest.TestCase):
             owner = getattr(importlib.import_module(f"nestprops.{module}"), name)
             for method in methods:
                 self.assertIsInstance(owner.__dict__[method], classmethod)
-        rule = importlib.import_module("nestprops.rules").Rule
-        self.assertIsInstance(rule.__dict__["turned"], property)
+        for (module, name), properties in PROPERTIES.items():
+            owner = getattr(importlib.import_module(f"nestprops.{module}"), name)
+            for word in properties:
+                self.assertIsInstance(owner.__dict__[word], property)
 
     def test_members_of_rules_are_those_of_the_base(self):
         rules = importlib.import_module("nestprops.rules")
@@ -79,7 +105,13 @@ class TestInterface(unittest.TestCase):
                      rules.Rule.of_sets([]), rules.Rule.read("a"), a & a, a | a, a.turned, a.given("a")):
             self.assertIn("least", vars(rule))
             self.assertIn("names", vars(rule))
-        self.assertIn("names", vars(plans.Plan([("a", rules.Always())])))
+        plan = plans.Plan([("a", rules.Always())])
+        self.assertIn("names", vars(plan))
+        yards = importlib.import_module("nestprops.yards")
+        yard = yards.Yard(plan, ["a"])
+        for one in (yard, yard.rest, yard | yard, yard.rest_under([]), yards.Yard.read(plan, "a"), *yards.all_yards(plan)):
+            self.assertIn("plan", vars(one))
+            self.assertIn("parts", vars(one))
 
 
 if __name__ == "__main__":

@@ -74,6 +74,38 @@ class TestFiles(unittest.TestCase):
                 del imported[module]
 
 
+class TestNames(unittest.TestCase):
+    def test_l15_one_binding_for_each_name(self):
+        for path, tree in TREES.items():
+            imported = [alias.asname or alias.name for node in tree.body if isinstance(node, ast.ImportFrom)
+                        for alias in node.names]
+            own = [node.name for node in tree.body if isinstance(node, (ast.FunctionDef, ast.ClassDef))]
+            own += [node.targets[0].id for node in tree.body if isinstance(node, ast.Assign)]
+            self.assertEqual(len(imported + own), len(set(imported + own)), path.name)
+            inner = {node.arg for node in ast.walk(tree) if isinstance(node, ast.arg)}
+            inner |= {node.id for function in ast.walk(tree) if isinstance(function, ast.FunctionDef)
+                      for node in ast.walk(function) if isinstance(node, ast.Name) and isinstance(node.ctx, ast.Store)}
+            self.assertEqual(inner & {*imported, *own}, set(), path.name)
+
+    def test_l16_the_file_that_defines_the_name(self):
+        defined = {f"nestprops.{path.stem}": {node.name for node in tree.body
+                                              if isinstance(node, (ast.FunctionDef, ast.ClassDef))}
+                   | {node.targets[0].id for node in tree.body if isinstance(node, ast.Assign)}
+                   for path, tree in TREES.items()}
+        for name, node in nodes(ast.ImportFrom):
+            if node.module in defined:
+                self.assertLessEqual({alias.name for alias in node.names}, defined[node.module], name)
+
+    def test_l5_l18_methods_properties_and_attributes(self):
+        attributes = {node.attr for _, node in nodes(ast.Attribute) if isinstance(node.ctx, ast.Store)}
+        functions = [node for _, owner in nodes(ast.ClassDef) for node in owner.body if isinstance(node, ast.FunctionDef)]
+        properties = {node.name for node in functions
+                      if any(isinstance(one, ast.Name) and one.id == "property" for one in node.decorator_list)}
+        methods = {node.name for node in functions if node.name not in properties}
+        self.assertEqual(attributes & (methods | properties), set())
+        self.assertEqual(methods & properties, set())
+
+
 class TestStatements(unittest.TestCase):
     def test_barred_statements(self):
         self.assertEqual([(name, node) for name, node in nodes(*BARRED)], [])
@@ -95,6 +127,18 @@ class TestStatements(unittest.TestCase):
             if isinstance(node.func, ast.Name) and node.func.id in ("any", "all", "min", "max", "sum", "sorted"):
                 for argument in node.args:
                     self.assertNotIsInstance(argument, ast.GeneratorExp, (name, node.lineno))
+
+    def test_l23_generators_are_iterated_at_once(self):
+        generators = {node.name for _, node in nodes(ast.FunctionDef)
+                      if any(isinstance(one, (ast.Yield, ast.YieldFrom)) for one in ast.walk(node))}
+        iterated = [node.iter for _, node in nodes(ast.For, ast.comprehension)]
+        iterated += [node.value for _, node in nodes(ast.YieldFrom)]
+        iterated += [argument for _, node in nodes(ast.Call) for argument in node.args[:1]
+                     if isinstance(node.func, ast.Name) and node.func.id in ("list", "tuple", "sorted", "dict", "sum")]
+        heads = [node.func for node in iterated if isinstance(node, ast.Call)]
+        for name, node in nodes(ast.Name):
+            if node.id in generators:
+                self.assertTrue(any(node is head for head in heads), (name, node.lineno))
 
     def test_l8_builtins(self):
         for name, node in nodes(ast.Name):
