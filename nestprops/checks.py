@@ -22,3 +22,10 @@ def check_stands(yard):
     falling = tuple([name for name in yard.parts if name not in supported])
     if len(falling) > 0:
         raise Falls(falling)
+
+
+def check_pair(yard, other):
+    """Raise OtherPlan, then Falls for the first yard, then for the second one, if the pair has such a fault."""
+    check_plans(yard, other)
+    check_stands(yard)
+    check_stands(other)

@@ -4,8 +4,9 @@ Nothing here uses the modules that are tested with it but `Plan` and `Rule`.
 """
 
 import random
+from collections import deque
 from functools import lru_cache
-from itertools import combinations
+from itertools import combinations, permutations
 
 from nestprops.plans import Plan
 from nestprops.rules import Always, AtLeast, Needs, Never, Rule
@@ -38,6 +39,22 @@ def random_rule(source, others):
         return source.choice([Always(), Never(), Always()])
     sets = [source.sample(others, source.randint(1, min(3, len(others)))) for _ in range(source.randint(1, 3))]
     return Rule.of_sets(sets)
+
+
+def knotted_plans(many, seed, fewest=3, most=4):
+    """Return random plans of parts that hold one another up, so that most of them have several lots."""
+    source = random.Random(seed)
+    return [knotted_plan(source, source.randint(fewest, most)) for _ in range(many)]
+
+
+def knotted_plan(source, size):
+    names = source.sample(["a", "b", "ab", "c", "roof", "d", "z", "m"], size)
+    rows = []
+    for name in names:
+        others = [other for other in names if other != name]
+        sets = [source.sample(others, source.randint(source.choice([1, 2, 2]), len(others))) for _ in range(source.randint(1, 2))]
+        rows.append((name, Rule.of_sets(sets)))
+    return Plan(rows)
 
 
 def in_plan_order(plan, parts):
@@ -109,19 +126,93 @@ def step(plan, parts, stack, deed):
     return None
 
 
-def reached(plan, parts, depth):
-    """Return the yards to which careful scripts of at most a depth lead from a standing yard ([8])."""
-    begun = (parts, ())
-    seen = {begun}
-    todo = [begun]
+def distances(plan, parts, depth):
+    """Return the least number of deeds to each yard and props within a depth, from a standing yard without props."""
+    numbers = {(parts, ()): 0}
+    todo = deque(numbers)
     while todo:
-        state = todo.pop()
+        state = todo.popleft()
         for deed in deeds_of(plan):
             after = step(plan, *state, deed)
-            if after is not None and len(after[1]) <= depth and after not in seen:
-                seen.add(after)
+            if after is not None and len(after[1]) <= depth and after not in numbers:
+                numbers[after] = numbers[state] + 1
                 todo.append(after)
-    return frozenset(parts for parts, stack in seen if not stack)
+    return numbers
+
+
+def reached(plan, parts, depth):
+    """Return the yards to which careful scripts of at most a depth lead from a standing yard ([8])."""
+    return frozenset(parts for parts, stack in distances(plan, parts, depth) if not stack)
+
+
+def standing(plan):
+    """Return the standing yards in the order of the document [10]."""
+    return [one for one in subsets(plan) if stands(plan, one)]
+
+
+def lots_at(plan, depth):
+    """Return the lots at a depth in the order of their greatest yards, each a tuple of yards in order ([8])."""
+    left = standing(plan)
+    lots = []
+    while left:
+        lot = reached(plan, left[0], depth)
+        lots.append(tuple(one for one in left if one in lot))
+        left = [one for one in left if one not in lot]
+    places = subsets(plan)
+    return sorted(lots, key=lambda lot: places.index(max(lot, key=len)))
+
+
+def stacks(plan, depth):
+    """Return all tuples of at most so many different parts."""
+    return [one for size in range(min(depth, len(plan)) + 1) for one in permutations(plan.names, size)]
+
+
+def tuples(plan):
+    """Return all sets of parts as tuples in plan order, in the order of the document [10]."""
+    return [in_plan_order(plan, one) for one in subsets(plan)]
+
+
+def bars(plan, one, other, depth, table):
+    """Return whether any value is a bar table that holds, from the words of [34]."""
+    if not isinstance(table, tuple) or not all(isinstance(item, tuple) and len(item) == 2 for item in table):
+        return False
+    everything = stacks(plan, depth)
+    if sorted(map(repr, everything)) != sorted(repr(item[0]) for item in table):
+        return False
+    yards = tuples(plan)
+    if not all(item[1] in yards for item in table):
+        return False
+    zones = {item[0]: frozenset(item[1]) for item in table}
+    if (one <= zones[()]) == (other <= zones[()]):
+        return False
+    if not all(supported(plan, zones[stack], stack) <= zones[stack] for stack in everything):
+        return False
+    longer = [stack for stack in everything if stack]
+    return all(zones[stack[:-1]] <= zones[stack] and rest(plan, zones[stack], stack[:-1]) <= zones[stack[:-1]]
+               for stack in longer)
+
+
+def shows_distance(plan, one, other, depth, number, table):
+    """Return whether any value is a distance table that shows a number, from the words of [39]."""
+    if not isinstance(table, tuple) or not all(isinstance(item, tuple) and len(item) == 3 for item in table):
+        return False
+    yards, props = tuples(plan), stacks(plan, depth)
+    if not all(parts in yards and stack in props for parts, stack, _ in table):
+        return False
+    if not all(type(worth) is int for _, _, worth in table):
+        return False
+    numbers = {(frozenset(parts), stack): worth for parts, stack, worth in table}
+    if len(numbers) < len(table) or not all(stands(plan, parts, stack) for parts, stack in numbers):
+        return False
+    if numbers.get((one, ())) != 0:
+        return False
+    for (parts, stack), worth in numbers.items():
+        for deed in deeds_of(plan) if worth < number - 1 else []:
+            after = step(plan, parts, stack, deed)
+            if after is not None and len(after[1]) <= depth:
+                if after not in numbers or numbers[after] > worth + 1:
+                    return False
+    return (other, ()) not in numbers or numbers[other, ()] >= number
 
 
 def walk(source, plan, parts, many, depth):

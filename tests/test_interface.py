@@ -29,6 +29,16 @@ PLAIN = {
         "grown": "yard * depth=0 props=()", "is_full": "yard * depth=0", "full_yards": "plan * depth=0",
         "join_of": "yard other * depth=0", "meet_of": "yard other",
     },
+    "joined": {
+        "are_joined": "yard other depth", "depth_between": "yard other", "script_between": "yard other depth",
+        "bar_table": "yard other depth", "bar_holds": "yard other depth table",
+    },
+    "lots": {"lot_of": "yard depth", "lots": "plan depth", "lot_tree": "plan", "depth_text": "yards"},
+    "fewest": {
+        "fewest_deeds": "yard other depth", "fewest_script": "yard other depth", "distance_table": "yard other depth",
+        "distances_hold": "yard other depth number table",
+    },
+    "sites": {"Site": "yard"},
 }
 
 METHODS = {
@@ -45,10 +55,16 @@ METHODS = {
         "__or__": "other", "__and__": "other", "__sub__": "other", "__eq__": "other", "__len__": "",
         "__contains__": "name", "__bool__": "", "__repr__": "",
     },
+    ("sites", "Site"): {
+        "put": "name", "take": "name", "prop": "name", "strike": "name", "unprop": "", "within": "name deeds",
+        "trial": "deeds", "undo": "", "log": "", "copied": "", "__len__": "", "__eq__": "other", "__repr__": "",
+    },
 }
 
 CLASS_METHODS = {("rules", "Rule"): ("of_sets", "read"), ("plans", "Plan"): ("of", "read"), ("yards", "Yard"): ("read",)}
-PROPERTIES = {("rules", "Rule"): ("turned",), ("yards", "Yard"): ("stands", "rest")}
+PROPERTIES = {
+    ("rules", "Rule"): ("turned",), ("yards", "Yard"): ("stands", "rest"), ("sites", "Site"): ("yard", "props"),
+}
 
 
 def parameters_of(function):
