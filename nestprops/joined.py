@@ -4,7 +4,7 @@ from nestprops.checks import check_pair
 from nestprops.climbs import over
 from nestprops.growth import Grower
 from nestprops.leastsets import mask_of, names_of
-from nestprops.masks import rest_in, stands_in, supported_in
+from nestprops.masks import rest_in, supported_in
 from nestprops.stacks import all_stacks, is_parts, is_stack, stack_names, stack_of
 
 

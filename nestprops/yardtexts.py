@@ -5,6 +5,11 @@ EMPTY = "none"
 
 def show_yard(yard):
     """Return the text of a yard."""
-    if len(yard.parts) == 0:
+    return show_names(yard.parts)
+
+
+def show_names(names):
+    """Return names separated by spaces, or the word for none."""
+    if len(names) == 0:
         return EMPTY
-    return " ".join(yard.parts)
+    return " ".join(names)

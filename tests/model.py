@@ -52,8 +52,8 @@ def knotted_plan(source, size):
     rows = []
     for name in names:
         others = [other for other in names if other != name]
-        sets = [source.sample(others, source.randint(source.choice([1, 2, 2]), len(others))) for _ in range(source.randint(1, 2))]
-        rows.append((name, Rule.of_sets(sets)))
+        sizes = [source.randint(source.choice([1, 2, 2]), len(others)) for _ in range(source.randint(1, 2))]
+        rows.append((name, Rule.of_sets([source.sample(others, size) for size in sizes])))
     return Plan(rows)
 
 

@@ -8,12 +8,13 @@ from tests.model import ARCH, HUT
 
 FALLS = [
     (Yard(ARCH, ["z", "x"]), Yard(ARCH), ("x", "z")), (Yard(ARCH), Yard(ARCH, ["y"]), ("y",)),
-    (Yard(ARCH, ["y"]), Yard(ARCH, ["z", "x"]), ("y",)), (Yard(HUT), Yard(HUT, ["roof", "base", "left"]), ("left", "roof")),
+    (Yard(ARCH, ["y"]), Yard(ARCH, ["z", "x"]), ("y",)),
+    (Yard(HUT), Yard(HUT, ["roof", "base", "left"]), ("left", "roof")),
 ]
 
 
 class PairErrors:
-    """For a test case with a method `calls` that goes over calls with two yards, some of them with wrong tables, too."""
+    """For a test case with a method `calls` that goes over calls with two yards, some with wrong tables, too."""
 
     def test_other_plan(self):
         same_names = Plan([(name, Always()) for name in ARCH.names])

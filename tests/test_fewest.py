@@ -25,7 +25,8 @@ NONE_A, A = Yard(ONE), Yard(ONE, ["a"])
 TABLE = (((), (), 0), (("a",), (), 1))
 
 ANY_VALUES = (
-    None, True, False, 0, 1, "", "a", (), ((),), (((),),), ((), ()), ((), (), ()), (((), (), 0),), (None,), (True,), (0,),
+    None, True, False, 0, 1, "", "a", (), ((),), (((),),), ((), ()), ((), (), ()), (((), (), 0),), (None,), (True,),
+    (0,),
     ((((((),),),),),), [], [((), (), 0)], {}, (((), (), 0, 0),), (((), ()),), ((None, (), 0),), (((), None, 0),),
 )
 
@@ -167,10 +168,13 @@ class TestDistancesHold(unittest.TestCase):
     def test_forms_of_an_entry(self):
         begun = ((), (), 0)
         wrong = [
-            (("a",), (), True), (("a",), (), False), (("a",), (), "1"), (("a",), (), None), (("a",), (), (1,)), (("a",), 1),
-            (("a",), (), 1, 1), ["a", (), 1], (["a"], (), 1), (("a",), [], 1), ("a", (), 1), (("a",), "", 1), (("a", "a"), (), 1),
+            (("a",), (), True), (("a",), (), False), (("a",), (), "1"), (("a",), (), None), (("a",), (), (1,)),
+            (("a",), 1),
+            (("a",), (), 1, 1), ["a", (), 1], (["a"], (), 1), (("a",), [], 1), ("a", (), 1), (("a",), "", 1),
+            (("a", "a"), (), 1),
             (("b",), (), 1), (("a",), ("b",), 1), (("a",), ("a", "a"), 1), (("a",), ("a",), True), (("a", None), (), 1),
-            (("a",), None, 1), (None, (), 1), (("a",), (), ()), (("a",), (("a",),), 1), ((True,), (), 1), ((("a",),), (), 1),
+            (("a",), None, 1), (None, (), 1), (("a",), (), ()), (("a",), (("a",),), 1), ((True,), (), 1),
+            ((("a",),), (), 1),
         ]
         for entry in wrong:
             for number in range(3):
@@ -189,7 +193,8 @@ class TestDistancesHold(unittest.TestCase):
         table = distance_table(yard, other, 0)
         self.assertTrue(self.same(yard, other, 0, 2, table))
         self.assertIn((("b", "a"), (), 2), table)
-        changed = tuple((("a", "b"), (), 2) if len(parts) == 2 else (parts, stack, worth) for parts, stack, worth in table)
+        changed = tuple((("a", "b"), (), 2) if item[0] == ("b", "a") and item[1] == () else item for item in table)
+        self.assertNotEqual(changed, table)
         self.assertFalse(self.same(yard, other, 0, 2, changed))
 
     def test_no_entry_twice(self):

@@ -39,6 +39,9 @@ PLAIN = {
         "distances_hold": "yard other depth number table",
     },
     "sites": {"Site": "yard"},
+    "desk": {"Desk": ""},
+    "plantexts": {"show_plan": "plan"},
+    "strikes": {"least_stands": "yard name", "least_strikes": "yard name"},
 }
 
 METHODS = {
@@ -59,9 +62,11 @@ METHODS = {
         "put": "name", "take": "name", "prop": "name", "strike": "name", "unprop": "", "within": "name deeds",
         "trial": "deeds", "undo": "", "log": "", "copied": "", "__len__": "", "__eq__": "other", "__repr__": "",
     },
+    ("desk", "Desk"): {"say": "row", "__len__": ""},
 }
 
-CLASS_METHODS = {("rules", "Rule"): ("of_sets", "read"), ("plans", "Plan"): ("of", "read"), ("yards", "Yard"): ("read",)}
+CLASS_METHODS = {("rules", "Rule"): ("of_sets", "read"), ("plans", "Plan"): ("of", "read"),
+                 ("yards", "Yard"): ("read",)}
 PROPERTIES = {
     ("rules", "Rule"): ("turned",), ("yards", "Yard"): ("stands", "rest"), ("sites", "Site"): ("yard", "props"),
 }
@@ -125,7 +130,8 @@ class TestInterface(unittest.TestCase):
         self.assertIn("names", vars(plan))
         yards = importlib.import_module("nestprops.yards")
         yard = yards.Yard(plan, ["a"])
-        for one in (yard, yard.rest, yard | yard, yard.rest_under([]), yards.Yard.read(plan, "a"), *yards.all_yards(plan)):
+        for one in (yard, yard.rest, yard | yard, yard.rest_under([]), yards.Yard.read(plan, "a"),
+                    *yards.all_yards(plan)):
             self.assertIn("plan", vars(one))
             self.assertIn("parts", vars(one))
 

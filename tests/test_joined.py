@@ -325,10 +325,14 @@ class TestBarHolds(unittest.TestCase):
     def test_forms_of_an_entry(self):
         whole = BAR[:3]
         wrong = [
-            (["z"], ("z",)), (("z",), ["z"]), [("z",), ("z",)], (("z",), ("z",), ()), (("z",),), ("z", ("z",)), ("z", "z"),
-            (("z",), "z"), (("q",), ("z",)), (("z",), ("q",)), (("z",), ("z", "z")), (("z",), ("z", None)), (("z",), (True,)),
-            (("z", "z"), ("z",)), (("y",), ("z",)), (("z",), (("z",),)), ((("z",),), ("z",)), (None, ("z",)), (("z",), None),
-            (("z",), ("z", "y")), (("z", "x"), ("z",)), (("",), ("z",)), (("z",), ("",)), (("z ",), ("z",)), ((True,), ("z",)),
+            (["z"], ("z",)), (("z",), ["z"]), [("z",), ("z",)], (("z",), ("z",), ()), (("z",),), ("z", ("z",)),
+            ("z", "z"),
+            (("z",), "z"), (("q",), ("z",)), (("z",), ("q",)), (("z",), ("z", "z")), (("z",), ("z", None)),
+            (("z",), (True,)),
+            (("z", "z"), ("z",)), (("y",), ("z",)), (("z",), (("z",),)), ((("z",),), ("z",)), (None, ("z",)),
+            (("z",), None),
+            (("z",), ("z", "y")), (("z", "x"), ("z",)), (("",), ("z",)), (("z",), ("",)), (("z ",), ("z",)),
+            ((True,), ("z",)),
         ]
         for entry in wrong:
             self.assertFalse(self.same(EMPTY, FULL, 1, (*whole, entry)), entry)
@@ -398,7 +402,8 @@ class TestBarHolds(unittest.TestCase):
 
     def test_all_tables_over_three_parts_at_depth_one(self):
         stacks = model.stacks(ARCH, 1)
-        true = [self.same(EMPTY, FULL, 1, tuple(zip(stacks, chosen))) for chosen in product(model.tuples(ARCH), repeat=4)]
+        zones = product(model.tuples(ARCH), repeat=4)
+        true = [self.same(EMPTY, FULL, 1, tuple(zip(stacks, chosen))) for chosen in zones]
         self.assertEqual(true.count(True), 1)
 
     def test_the_zone_of_a_stack_holds_that_of_the_shorter_one(self):
@@ -456,7 +461,8 @@ class TestNothingChanges(unittest.TestCase):
         depth_between(EMPTY, FULL)
         bar_table(FULL, EMPTY, 1)
         script_between(other, yard, 1)
-        self.assertEqual((depth_between(yard, other), script_between(yard, other, 3), bar_table(yard, other, 0)), before)
+        self.assertEqual((depth_between(yard, other), script_between(yard, other, 3), bar_table(yard, other, 0)),
+                         before)
         self.assertEqual((yard.parts, other.parts), ((), HUT.names))
 
 

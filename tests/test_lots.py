@@ -190,7 +190,8 @@ class TestDepthText(unittest.TestCase):
             yards = (list(all_yards(plan)) * 20)[:20]
             rows = depth_text(yards).split("\n")
             self.assertEqual(len(rows), 20)
-            self.assertEqual({len(row) for row in rows}, {max(len(" ".join(yard.parts) or "none") for yard in yards) + 60})
+            self.assertEqual({len(row) for row in rows},
+                             {max(len(" ".join(yard.parts) or "none") for yard in yards) + 60})
         self.assertLess(time.monotonic() - begun, 20)
 
     def test_other_plan_before_falls(self):

@@ -80,7 +80,8 @@ class SlowSite:
     def fault(self, deeds, floor):
         """Do the deeds up to the first one that cannot be done and return its index, or None."""
         for at, deed in enumerate(deeds):
-            known = [("unprop",), *[(kind, name) for kind in ("put", "take", "prop", "strike") for name in self.plan.names]]
+            known = [("unprop",),
+                     *[(kind, name) for kind in ("put", "take", "prop", "strike") for name in self.plan.names]]
             if deed not in known or deed == ("unprop",) and len(self.now[1]) <= floor:
                 return at
             try:
@@ -130,7 +131,8 @@ def outcome(site, word, *arguments):
 
 
 def random_call(source, plan):
-    word = source.choice(["put", "put", "put", "take", "prop", "prop", "strike", "unprop", "within", "within", "trial", "undo"])
+    word = source.choice(["put", "put", "put", "take", "prop", "prop", "strike", "unprop", "within", "within", "trial",
+                          "undo"])
     name = source.choice([*plan.names, *plan.names, *plan.names, "q"])
     if word in ("unprop", "undo"):
         return (word,)
@@ -147,7 +149,8 @@ def random_deeds(source, plan):
     if source.random() < 0.6:
         found.insert(source.randint(0, len(found)), ("unprop",))
     if source.random() < 0.1:
-        found.insert(source.randint(0, len(found)), source.choice([("undo",), ("put", "q"), None, ("unprop", "x"), ("strike",)]))
+        found.insert(source.randint(0, len(found)),
+                     source.choice([("undo",), ("put", "q"), None, ("unprop", "x"), ("strike",)]))
     return source.choice([list, tuple])(found)
 
 
@@ -165,8 +168,10 @@ class TestByMeaning(unittest.TestCase):
                     self.assertEqual(state_of(site), slow.state(), (plan, call))
                     self.assertTrue(site.yard.stands_under(site.props))
                     seen[call[0], result[0]] = seen.get((call[0], result[0]), 0) + 1
-        for key in (("within", "value"), ("within", "NoDeed"), ("within", "Falls"), ("within", "NoPart"), ("trial", "value"),
-                    ("trial", "NoDeed"), ("unprop", "NoProp"), ("take", "Falls"), ("put", "Falls"), ("strike", "NoPart")):
+        for key in (("within", "value"), ("within", "NoDeed"), ("within", "Falls"), ("within", "NoPart"),
+                    ("trial", "value"),
+                    ("trial", "NoDeed"), ("unprop", "NoProp"), ("take", "Falls"), ("put", "Falls"),
+                    ("strike", "NoPart")):
             self.assertGreater(seen[key], 20, key)
 
     def test_errors_change_nothing(self):
@@ -263,7 +268,9 @@ class TestSite(unittest.TestCase):
         self.assertEqual(site.strike(name="right"), ("left", "right"))
         self.no_part("q", site.strike, "q")
         self.assertEqual(site.yard.parts, ("base",))
-        self.assertEqual(site.log(), [("strike", "roof", ("roof",)), ("strike", "roof", ()), ("strike", "right", ("left", "right"))])
+        self.assertEqual(site.log(),
+                         [("strike", "roof", ("roof",)), ("strike", "roof", ()),
+                          ("strike", "right", ("left", "right"))])
 
     def test_strike_under_props(self):
         site = Site(Yard(HUT, HUT.names))
@@ -389,7 +396,8 @@ class TestWithin(unittest.TestCase):
             self.no_deed(0, Site(Yard(ARCH)).within, "x", [item, ("put", "x")])
         for item in (("put", "x"), ("put", "y"), ("take", "z"), ("prop", "x"), ("unprop",)):
             site = Site(Yard(ARCH))
-            self.no_deed(4, site.within, "x", [("put", "x"), ("prop", "z"), ("put", "z"), ("unprop",), item, ("prop", "y")])
+            self.no_deed(4, site.within, "x",
+                         [("put", "x"), ("prop", "z"), ("put", "z"), ("unprop",), item, ("prop", "y")])
             self.assertEqual(len(site.log()), 6)
         site = Site(Yard(HUT, HUT.names))
         self.no_deed(1, site.within, "roof", [("take", "roof"), ("take", "left"), ("take", "right")])
@@ -402,7 +410,8 @@ class TestWithin(unittest.TestCase):
 
     def test_an_unprop_in_between_need_not_be_careful(self):
         site = Site(Yard(HUT))
-        self.assertEqual(site.within("roof", [("put", "roof"), ("prop", "left"), ("put", "left"), ("unprop",)]), ("roof",))
+        self.assertEqual(site.within("roof", [("put", "roof"), ("prop", "left"), ("put", "left"), ("unprop",)]),
+                         ("roof",))
         self.assertEqual(site.log()[-2:], [("unprop", "left", ("left",)), ("unprop", "roof", ("roof",))])
 
     def test_deeds_stay(self):
@@ -437,7 +446,8 @@ class TestTrial(unittest.TestCase):
         before = state_of(site)
         self.assertEqual(site.trial([("put", "x"), ("prop", "y"), ("unprop",)]), Yard(ARCH, ["x"]))
         for deeds, at in (([("unprop",)], 0), ([("put", "x"), ("prop", "y"), ("unprop",), ("unprop",)], 3),
-                          ([("put", "x"), ("prop", "x")], 1), ([("take", "x")], 0), ([("put", "y")], 0), ([("strike", "q")], 0)):
+                          ([("put", "x"), ("prop", "x")], 1), ([("take", "x")], 0), ([("put", "y")], 0),
+                          ([("strike", "q")], 0)):
             with self.assertRaises(NoDeed) as caught:
                 site.trial(deeds)
             self.assertEqual(caught.exception.at, at)
