@@ -90,7 +90,7 @@ def numbers_of(plan, depth, table):
     if not isinstance(table, tuple):
         return numbers
     for item in table:
-        if not is_entry(item, plan, depth):
+        if not is_distance_entry(item, plan, depth):
             return {}
         state = (mask_of(item[0], plan.names), stack_of(item[1], plan))
         if state in numbers or not stands_in(plan, state[0], sum(state[1])):
@@ -99,7 +99,7 @@ def numbers_of(plan, depth, table):
     return numbers
 
 
-def is_entry(item, plan, depth):
+def is_distance_entry(item, plan, depth):
     """Return whether any value has the form of an entry of a distance table."""
     if not isinstance(item, tuple) or len(item) != 3:
         return False

@@ -86,7 +86,7 @@ def zones_of(plan, depth, table):
     if not isinstance(table, tuple):
         return zones
     for item in table:
-        if not is_entry(item, plan, depth):
+        if not is_bar_entry(item, plan, depth):
             return {}
         stack = stack_of(item[0], plan)
         if stack in zones:
@@ -95,7 +95,7 @@ def zones_of(plan, depth, table):
     return zones
 
 
-def is_entry(item, plan, depth):
+def is_bar_entry(item, plan, depth):
     """Return whether any value is an entry of a bar table."""
     if not isinstance(item, tuple) or len(item) != 2:
         return False

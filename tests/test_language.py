@@ -74,6 +74,13 @@ class TestFiles(unittest.TestCase):
                 del imported[module]
 
 
+    def test_imports_are_used(self):
+        for path, tree in TREES.items():
+            imported = {alias.name for node in tree.body if isinstance(node, ast.ImportFrom) for alias in node.names}
+            read = {node.id for node in ast.walk(tree) if isinstance(node, ast.Name)}
+            self.assertLessEqual(imported, read, path.name)
+
+
 class TestNames(unittest.TestCase):
     def test_l15_one_binding_for_each_name(self):
         for path, tree in TREES.items():
@@ -160,6 +167,7 @@ class TestStatements(unittest.TestCase):
             self.assertNotIsInstance(node.value, (float, complex))
             if isinstance(node.value, str):
                 self.assertNotIn("%", node.value, (name, node.lineno))
+
 
 if __name__ == "__main__":
     unittest.main()
