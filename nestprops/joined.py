@@ -114,5 +114,6 @@ def zone_holds(plan, depth, zones, stack):
     if not is_within(supported_in(plan, zone, props), zone):
         return False
     # The zones of stacks with one more prop; there are none behind the longest stacks.
-    longer = [zones[(*stack, 1 << at)] for at in range(len(plan.names)) if (*stack, 1 << at) in zones]
+    stacks = [(*stack, 1 << at) for at in range(len(plan.names))]
+    longer = [zones[above] for above in stacks if above in zones]
     return all([is_within(zone, wider) and is_within(rest_in(plan, wider, props), zone) for wider in longer])

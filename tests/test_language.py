@@ -135,6 +135,12 @@ class TestStatements(unittest.TestCase):
                 for argument in node.args:
                     self.assertNotIsInstance(argument, ast.GeneratorExp, (name, node.lineno))
 
+    def test_l7_no_star_in_a_set_or_an_index(self):
+        inner = [(name, one) for name, node in nodes(ast.Set) for one in node.elts]
+        inner += [(name, one) for name, node in nodes(ast.Subscript) for one in ast.walk(node.slice)]
+        stars = [(name, node.lineno) for name, node in inner if isinstance(node, ast.Starred)]
+        self.assertEqual(stars, [])
+
     def test_l23_generators_are_iterated_at_once(self):
         generators = {node.name for _, node in nodes(ast.FunctionDef)
                       if any(isinstance(one, (ast.Yield, ast.YieldFrom)) for one in ast.walk(node))}
